@@ -1,0 +1,41 @@
+// Package tiles multiplies matrices of small whole numbers, block by block: see DOC.md.
+package tiles
+
+import (
+	"tiles/api"
+	"tiles/fixed"
+)
+
+// maxShift stands here, since package api does not name it.
+const maxShift = 31
+
+// High tells the high product (P3).
+func High(a int, b int) (int, api.Errno) {
+	if !fixed.IsI32(a) || !fixed.IsI32(b) {
+		return 0, api.ErrZero
+	}
+	return int(fixed.High(int32(a), int32(b))), api.OK
+}
+
+// Shifted shifts a number (P3).
+func Shifted(x int, e int) (int, api.Errno) {
+	if !fixed.IsI32(x) {
+		return 0, api.ErrZero
+	}
+	if e < 0 || e > maxShift {
+		return 0, api.ErrScale
+	}
+	return int(fixed.Shifted(int32(x), e)), api.OK
+}
+
+// Check tells whether a job is right (P4).
+func Check(j api.Job, left []int, right []int, out []int) api.Errno { return api.OK }
+
+// Plan cuts what comes out into tiles (P5).
+func Plan(j api.Job) ([]api.Tile, api.Errno) { return nil, api.OK }
+
+// Multiply does a job (P6).
+func Multiply(j api.Job, left []int, right []int, out []int) ([]int, api.Errno) { return nil, api.OK }
+
+// Many does tasks, one behind the other (P8).
+func Many(tasks []api.Task) []api.Result { return nil }
