@@ -8,9 +8,18 @@ type Kind interface {
 	uint8 | int8 | int16 | int32
 }
 
-// IsI32 tells whether x is of the kind I32.
-func IsI32(x int) bool {
-	return math.MinInt32 <= x && x <= math.MaxInt32
+// maxShift stands here, since package api does not name it.
+const maxShift = 31
+
+// Is tells whether x is of the kind K.
+func Is[K Kind](x int) bool {
+	// What is not of K changes when it is brought to so few bits.
+	return int(K(x)) == x
+}
+
+// IsShift tells whether a number may be shifted by e.
+func IsShift(e int) bool {
+	return 0 <= e && e <= maxShift
 }
 
 // Cut cuts x to the kind K, whose limits are least and most.
@@ -27,7 +36,7 @@ func High(a int32, b int32) int32 {
 	return Cut[int32](nearest, math.MinInt32, math.MaxInt32)
 }
 
-// Shifted is x shifted by e, which is 0 to 31.
+// Shifted is x shifted by e, of which IsShift holds.
 func Shifted(x int32, e int) int32 {
 	// An int has room for the least number without its sign, and for the half.
 	if x < 0 {

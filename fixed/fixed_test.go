@@ -36,10 +36,31 @@ func TestCut(t *testing.T) {
 	checkCut[int32](t, "I32", math.MinInt32, math.MaxInt32)
 }
 
-func TestIsI32(t *testing.T) {
+func checkIs[K Kind](t *testing.T, name string, least int, most int) {
+	t.Helper()
 	for _, x := range wild {
-		if got, want := IsI32(x), int(int32(x)) == x; got != want {
-			t.Errorf("IsI32(%d) = %t, want %t", x, got, want)
+		if got, want := Is[K](x), least <= x && x <= most; got != want {
+			t.Errorf("Is of %d, %s = %t, want %t", x, name, got, want)
+		}
+	}
+}
+
+func TestIs(t *testing.T) {
+	checkIs[uint8](t, "U8", 0, 255)
+	checkIs[int8](t, "I8", -128, 127)
+	checkIs[int16](t, "I16", -32768, 32767)
+	checkIs[int32](t, "I32", math.MinInt32, math.MaxInt32)
+}
+
+func TestIsShift(t *testing.T) {
+	for e := range 32 {
+		if !IsShift(e) {
+			t.Errorf("IsShift(%d) = false", e)
+		}
+	}
+	for _, e := range []int{math.MinInt, -32, -1, 32, 33, 64, math.MaxInt} {
+		if IsShift(e) {
+			t.Errorf("IsShift(%d) = true", e)
 		}
 	}
 }

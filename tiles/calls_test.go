@@ -2,6 +2,7 @@ package tiles_test
 
 import (
 	"math"
+	"reflect"
 	"slices"
 	"testing"
 
@@ -94,17 +95,21 @@ func questions() []question {
 }
 
 func TestP2SameAgainBehindOthers(t *testing.T) {
-	all := questions()
-	first := make([]answer, len(all))
+	checkSameAgain(t, questions(), ask)
+}
+
+func checkSameAgain[Q any, A any](t *testing.T, all []Q, ask func(Q) A) {
+	t.Helper()
+	first := make([]A, len(all))
 	for i, q := range all {
 		first[i] = ask(q)
 	}
 	// Backwards, so that each call stands behind other ones than before.
 	for i, q := range slices.Backward(all) {
-		if again := ask(q); again != first[i] {
+		if again := ask(q); !reflect.DeepEqual(again, first[i]) {
 			t.Errorf("%+v answers %+v, then %+v", q, first[i], again)
 		}
-		if again := ask(q); again != first[i] {
+		if again := ask(q); !reflect.DeepEqual(again, first[i]) {
 			t.Errorf("%+v twice in a row answers %+v, then %+v", q, first[i], again)
 		}
 	}

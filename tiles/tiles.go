@@ -4,14 +4,14 @@ package tiles
 import (
 	"tiles/api"
 	"tiles/fixed"
+	"tiles/plan"
+	"tiles/rules"
+	"tiles/view"
 )
-
-// maxShift stands here, since package api does not name it.
-const maxShift = 31
 
 // High tells the high product (P3).
 func High(a int, b int) (int, api.Errno) {
-	if !fixed.IsI32(a) || !fixed.IsI32(b) {
+	if !fixed.Is[int32](a) || !fixed.Is[int32](b) {
 		return 0, api.ErrZero
 	}
 	return int(fixed.High(int32(a), int32(b))), api.OK
@@ -19,20 +19,30 @@ func High(a int, b int) (int, api.Errno) {
 
 // Shifted shifts a number (P3).
 func Shifted(x int, e int) (int, api.Errno) {
-	if !fixed.IsI32(x) {
+	if !fixed.Is[int32](x) {
 		return 0, api.ErrZero
 	}
-	if e < 0 || e > maxShift {
+	if !fixed.IsShift(e) {
 		return 0, api.ErrScale
 	}
 	return int(fixed.Shifted(int32(x), e)), api.OK
 }
 
 // Check tells whether a job is right (P4).
-func Check(j api.Job, left []int, right []int, out []int) api.Errno { return api.OK }
+func Check(j api.Job, left []int, right []int, out []int) api.Errno {
+	return rules.First(j, left, right, out)
+}
 
 // Plan cuts what comes out into tiles (P5).
-func Plan(j api.Job) ([]api.Tile, api.Errno) { return nil, api.OK }
+func Plan(j api.Job) ([]api.Tile, api.Errno) {
+	if !view.HasSides(j.Out) {
+		return nil, api.ErrView
+	}
+	if !rules.BlocksAreRight(j) {
+		return nil, api.ErrBlock
+	}
+	return plan.Tiles(j.Out.Rows, j.Out.Cols, j.BlockRows, j.BlockCols), api.OK
+}
 
 // Multiply does a job (P6).
 func Multiply(j api.Job, left []int, right []int, out []int) ([]int, api.Errno) { return nil, api.OK }
