@@ -9,16 +9,16 @@ import (
 
 // What BiasBy may be.
 const (
-	noBias    = 0
-	biasByRow = 1
-	biasByCol = 2
+	NoBias    = 0
+	BiasByRow = 1
+	BiasByCol = 2
 )
 
 // What ScaleBy may be.
 const (
-	noScale     = 0
-	scaleForAll = 1
-	scaleByRow  = 2
+	NoScale     = 0
+	ScaleForAll = 1
+	ScaleByRow  = 2
 )
 
 // First is the first error of a job, or OK.
@@ -121,11 +121,11 @@ func all(numbers []int, holds func(int) bool) bool {
 
 func biasIsRight(j api.Job) bool {
 	switch j.BiasBy {
-	case noBias:
+	case NoBias:
 		return true
-	case biasByRow:
+	case BiasByRow:
 		return len(j.Bias) == j.Out.Rows && areI32(j.Bias...)
-	case biasByCol:
+	case BiasByCol:
 		return len(j.Bias) == j.Out.Cols && areI32(j.Bias...)
 	}
 	return false
@@ -133,11 +133,11 @@ func biasIsRight(j api.Job) bool {
 
 func scaleIsRight(j api.Job) bool {
 	switch j.ScaleBy {
-	case noScale:
+	case NoScale:
 		return true
-	case scaleForAll:
+	case ScaleForAll:
 		return hasScales(j, 1)
-	case scaleByRow:
+	case ScaleByRow:
 		return hasScales(j, j.Out.Rows)
 	}
 	return false

@@ -115,16 +115,7 @@ func TestP4SnugViews(t *testing.T) {
 	for range 2000 {
 		v := api.View{Rows: 1 + r.Intn(24), Cols: 1 + r.Intn(24), Turned: r.Intn(2) == 0}
 		v.RowStep, v.ColStep = r.Intn(201)-100, r.Intn(201)-100
-		low, high := 0, 0
-		for i := range v.Rows {
-			for j := range v.Cols {
-				place := i*v.RowStep + j*v.ColStep
-				if v.Turned {
-					place = j*v.RowStep + i*v.ColStep
-				}
-				low, high = min(low, place), max(high, place)
-			}
-		}
+		low, high := reach(v)
 		length := high - low + 1
 		if length > 5000 {
 			continue
@@ -205,5 +196,6 @@ func TestP1WildTasks(t *testing.T) {
 		}
 		checkEmptyWithError(t, k.Job, k.Left)
 		tiles.Check(k.Job, k.Left, k.Right, k.Out)
+		tiles.Multiply(k.Job, k.Left, k.Right, k.Out)
 	}
 }

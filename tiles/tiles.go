@@ -7,6 +7,7 @@ import (
 	"tiles/plan"
 	"tiles/rules"
 	"tiles/view"
+	"tiles/work"
 )
 
 // High tells the high product (P3).
@@ -45,7 +46,15 @@ func Plan(j api.Job) ([]api.Tile, api.Errno) {
 }
 
 // Multiply does a job (P6).
-func Multiply(j api.Job, left []int, right []int, out []int) ([]int, api.Errno) { return nil, api.OK }
+func Multiply(j api.Job, left []int, right []int, out []int) ([]int, api.Errno) {
+	if code := Check(j, left, right, out); code != api.OK {
+		return nil, code
+	}
+	answer := make([]int, len(out))
+	copy(answer, out)
+	work.Do(j, left, right, answer)
+	return answer, api.OK
+}
 
 // Many does tasks, one behind the other (P8).
 func Many(tasks []api.Task) []api.Result { return nil }

@@ -45,6 +45,12 @@ func Place(v api.View, i int, j int) int {
 	return v.Offset + i*v.RowStep + j*v.ColStep
 }
 
+// Turn is a view of the same elements, in which rows and columns have changed places.
+func Turn(v api.View) api.View {
+	v.Rows, v.Cols, v.Turned = v.Cols, v.Rows, !v.Turned
+	return v
+}
+
 // Places goes through the places of all elements, row by row; one that elements share comes once for each.
 func Places(v api.View) iter.Seq[int] {
 	return func(yield func(int) bool) {

@@ -39,6 +39,23 @@ func TestPlacesMayStopEarly(t *testing.T) {
 	}
 }
 
+func TestTurn(t *testing.T) {
+	for _, turned := range []bool{false, true} {
+		v := api.View{Rows: 2, Cols: 3, Offset: 1, RowStep: 10, ColStep: 2, Turned: turned}
+		other := Turn(v)
+		if other.Rows != 3 || other.Cols != 2 || Turn(other) != v {
+			t.Errorf("Turn(%+v) = %+v", v, other)
+		}
+		for i := range v.Rows {
+			for j := range v.Cols {
+				if got, want := Place(other, j, i), Place(v, i, j); got != want {
+					t.Errorf("Turn(%+v): row %d, column %d stands at %d, want %d", v, j, i, got, want)
+				}
+			}
+		}
+	}
+}
+
 func TestFits(t *testing.T) {
 	for _, c := range []struct {
 		v      api.View
