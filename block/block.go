@@ -47,7 +47,7 @@ func (s span) length() int {
 // most is how many elements a block has at most: no matrix has longer sides.
 const most = api.MaxSide * api.MaxSide
 
-// Scratch is what one worker packs into and adds up in, tile by tile.
+// Scratch is what one worker packs into and adds up in, tile by tile and job by job.
 type Scratch[E Element] struct {
 	left, right [most]E
 	sums        [most]int32
@@ -65,7 +65,7 @@ func (s *Scratch[E]) Sums(p Pair, t api.Tile) []int32 {
 	return sums
 }
 
-// clean takes away what the tile ahead has left behind: sums go on from what stands there.
+// clean takes away what the tile ahead, of this job or of another one, has left behind: sums go on from what stands there.
 func (s *Scratch[E]) clean() {
 	clear(s.left[:])
 	clear(s.right[:])

@@ -131,3 +131,25 @@ func TestCleanLeavesNothing(t *testing.T) {
 		t.Error("something is left in the scratch")
 	}
 }
+
+// dirt is what another job may have left in a scratch.
+func dirt[E Element]() *Scratch[E] {
+	s := new(Scratch[E])
+	for i := range most {
+		s.left[i], s.right[i], s.sums[i] = 77, 99, math.MaxInt32
+	}
+	return s
+}
+
+func TestSumsBehindAnotherJob(t *testing.T) {
+	checkSums(t, dirt[uint8]())
+	checkSums(t, dirt[int8]())
+	s := dirt[uint8]()
+	j := api.Job{Left: api.View{Rows: 24}, Right: api.View{Cols: 24}, BlockDepth: 1}
+	if got := s.Sums(PairOf(j, nil, nil), api.Tile{ToRow: 24, ToCol: 24}); !slices.Equal(got, make([]int32, most)) {
+		t.Errorf("sums without depth, behind another job: %v", got)
+	}
+	if *s != (Scratch[uint8]{}) {
+		t.Error("something of another job is left in the scratch")
+	}
+}

@@ -54,8 +54,9 @@ func checkProducts(t *testing.T, all []product) {
 	}
 }
 
-func TestP6Examples(t *testing.T) {
-	checkProducts(t, []product{
+// examples are the document's.
+func examples() []product {
+	return []product{
 		{"example 1", example1(), func(k *api.Task) {}, []int{19, 22, 43, 50}},
 		{"example 1, LeftZero", example1(), func(k *api.Task) { k.Job.LeftZero = 1 }, []int{7, 8, 31, 36}},
 		{"example 1, both zero points", example1(), func(k *api.Task) { k.Job.LeftZero, k.Job.RightZero = 1, 5 }, []int{2, 3, 6, 11}},
@@ -72,7 +73,11 @@ func TestP6Examples(t *testing.T) {
 		{"example 6", example1(), func(k *api.Task) {
 			k.Out, k.Job.Out = []int{9, 9, 9, 9, 9, 9}, api.View{Rows: 2, Cols: 2, Offset: 5, RowStep: -2, ColStep: -1}
 		}, []int{9, 9, 50, 43, 22, 19}},
-	})
+	}
+}
+
+func TestP6Examples(t *testing.T) {
+	checkProducts(t, examples())
 }
 
 func TestP6Example6Wrong(t *testing.T) {
@@ -124,8 +129,12 @@ func TestP6EachRightTask(t *testing.T) {
 	}
 }
 
+func writtenOut() []product {
+	return slices.Concat(zeroProducts(), biasProducts(), scaleProducts(), limitProducts(), viewProducts(), emptyProducts())
+}
+
 func TestP6WrittenOut(t *testing.T) {
-	checkProducts(t, slices.Concat(zeroProducts(), biasProducts(), scaleProducts(), limitProducts(), viewProducts(), emptyProducts()))
+	checkProducts(t, writtenOut())
 }
 
 func one(kind int, left int, right int) api.Task {

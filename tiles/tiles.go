@@ -47,14 +47,27 @@ func Plan(j api.Job) ([]api.Tile, api.Errno) {
 
 // Multiply does a job (P6).
 func Multiply(j api.Job, left []int, right []int, out []int) ([]int, api.Errno) {
-	if code := Check(j, left, right, out); code != api.OK {
-		return nil, code
-	}
-	answer := make([]int, len(out))
-	copy(answer, out)
-	work.Do(j, left, right, answer)
-	return answer, api.OK
+	result := do(new(work.Crew), api.Task{Job: j, Left: left, Right: right, Out: out})
+	return result.Out, result.Code
 }
 
 // Many does tasks, one behind the other (P8).
-func Many(tasks []api.Task) []api.Result { return nil }
+func Many(tasks []api.Task) []api.Result {
+	// One crew for all of them, so that scratch is made once and not for each task.
+	crew := new(work.Crew)
+	results := make([]api.Result, len(tasks))
+	for i, task := range tasks {
+		results[i] = do(crew, task)
+	}
+	return results
+}
+
+func do(crew *work.Crew, t api.Task) api.Result {
+	if code := Check(t.Job, t.Left, t.Right, t.Out); code != api.OK {
+		return api.Result{Code: code}
+	}
+	out := make([]int, len(t.Out))
+	copy(out, t.Out)
+	crew.Do(t.Job, t.Left, t.Right, out)
+	return api.Result{Out: out, Code: api.OK}
+}

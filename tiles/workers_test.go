@@ -45,16 +45,17 @@ func TestP2CallsAtTheSameTime(t *testing.T) {
 	all.Wait()
 }
 
-// All workers have ended when the call answers: what comes out does not change any more, and none is left.
-func TestP1WorkersEnd(t *testing.T) {
-	k := manyTiles(33)
+// checkWorkersEnd holds that all workers have ended when a call answers: what comes out does not change any more, and none is left.
+func checkWorkersEnd(t *testing.T, call func() [][]int) {
+	t.Helper()
 	before := runtime.NumGoroutine()
 	for range 50 {
-		got, _ := tiles.Multiply(k.Job, k.Left, k.Right, k.Out)
-		at := slices.Clone(got)
-		runtime.Gosched()
-		if !slices.Equal(got, at) {
-			t.Fatal("what came out changed behind the call")
+		for _, got := range call() {
+			at := slices.Clone(got)
+			runtime.Gosched()
+			if !slices.Equal(got, at) {
+				t.Fatal("what came out changed behind the call")
+			}
 		}
 	}
 	// One that has told that it is done may still be on its way out.
@@ -65,4 +66,12 @@ func TestP1WorkersEnd(t *testing.T) {
 		time.Sleep(10 * time.Millisecond)
 	}
 	t.Errorf("%d goroutines ahead of the calls, %d behind them", before, runtime.NumGoroutine())
+}
+
+func TestP1WorkersEnd(t *testing.T) {
+	k := manyTiles(33)
+	checkWorkersEnd(t, func() [][]int {
+		got, _ := tiles.Multiply(k.Job, k.Left, k.Right, k.Out)
+		return [][]int{got}
+	})
 }
